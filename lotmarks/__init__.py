@@ -1,0 +1,1 @@
+"""Lotmarks: cells renewed all at once, in lots, or one by one."""

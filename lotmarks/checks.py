@@ -1,0 +1,31 @@
+"""What a told thing is: each function takes any object and returns True or False."""
+
+
+def is_list(thing):
+    """Whether a thing is a list, or a tuple in the place of one."""
+    return isinstance(thing, (list, tuple))
+
+
+def is_name(thing):
+    """Whether a thing is a string of one to eight letters a to z."""
+    if not isinstance(thing, str) or not 1 <= len(thing) <= 8:
+        return False
+    return all(["a" <= letter <= "z" for letter in thing])
+
+
+def is_name_list(thing):
+    """Whether a thing is a list of different names."""
+    # That all are names comes first: only then can each be a member of a set.
+    if not is_list(thing) or not all([is_name(item) for item in thing]):
+        return False
+    return len(set(thing)) == len(thing)
+
+
+def is_integer(thing):
+    """Whether a thing is an integer; True and False are none."""
+    return isinstance(thing, int) and not isinstance(thing, bool)
+
+
+def is_count(thing):
+    """Whether a thing is an integer from 0 on."""
+    return is_integer(thing) and thing >= 0
