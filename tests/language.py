@@ -276,7 +276,7 @@ def import_complaints(trees):
 def member_complaints(trees):
     """Names that are methods and attributes, methods told twice, and methods and attributes that nobody defines."""
     methods, attributes, read, called, found = [], [], [], [], []
-    for name, tree in trees.items():
+    for tree in trees.values():
         for node in ast.walk(tree):
             if isinstance(node, ast.ClassDef):
                 own = [item.name for item in node.body if isinstance(item, ast.FunctionDef)]
