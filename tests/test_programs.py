@@ -6,7 +6,7 @@ import unittest
 from lotmarks.errors import BadNumber, BadProgram, UnknownCell
 from lotmarks.programs import Program, is_sweep
 from lotmarks.webs import Web
-from tests.things import any_objects, nested, no_lists, no_names
+from tests.things import EqualToAll, any_objects, check_equal, nested, no_lists, no_names
 
 LOTS = [["c", "a"], ["b"], ["c", "b", "a"], ["b"]]
 SORTED = (("a", "c"), ("b",), ("a", "b", "c"), ("b",))
@@ -220,17 +220,11 @@ class TestPlus(unittest.TestCase):
 
 
 class TestEqual(unittest.TestCase):
-    def check(self, one, other, equal):
-        self.assertIs(one == other, equal)
-        self.assertIs(one != other, not equal)
-        self.assertIs(other == one, equal)
-        self.assertIs(other != one, not equal)
-
     def test_the_same_lots(self):
-        self.check(Program(LOTS), Program(LOTS), True)
-        self.check(Program(LOTS), Program(SORTED), True)
-        self.check(Program([["a", "b"]]), Program([["b", "a"]]), True)
-        self.check(Program([]), Program(()), True)
+        check_equal(self, Program(LOTS), Program(LOTS), True)
+        check_equal(self, Program(LOTS), Program(SORTED), True)
+        check_equal(self, Program([["a", "b"]]), Program([["b", "a"]]), True)
+        check_equal(self, Program([]), Program(()), True)
 
     def test_small_programs(self):
         made = [Program(lots) for lots in small_programs()]
@@ -240,26 +234,22 @@ class TestEqual(unittest.TestCase):
                     self.fail((at, past))
 
     def test_other_lots(self):
-        self.check(Program([["a", "b"]]), Program([["a"], ["b"]]), False)
-        self.check(Program([["a"], ["b"]]), Program([["b"], ["a"]]), False)
-        self.check(Program([["a"]]), Program([["a"], ["a"]]), False)
-        self.check(Program([["a"]]), Program([["b"]]), False)
-        self.check(Program([["ab"]]), Program([["a", "b"]]), False)
-        self.check(Program([]), Program([["a"]]), False)
+        check_equal(self, Program([["a", "b"]]), Program([["a"], ["b"]]), False)
+        check_equal(self, Program([["a"], ["b"]]), Program([["b"], ["a"]]), False)
+        check_equal(self, Program([["a"]]), Program([["a"], ["a"]]), False)
+        check_equal(self, Program([["a"]]), Program([["b"]]), False)
+        check_equal(self, Program([["ab"]]), Program([["a", "b"]]), False)
+        check_equal(self, Program([]), Program([["a"]]), False)
 
     def test_things_of_other_kinds(self):
         others = [thing for thing in any_objects() if not isinstance(thing, Program)]
         for program in (Program([]), Program([["a"]]), Program(LOTS)):
             parts = [program.lots, list(program), [["a"]], (("a",),), Web([("a", [])])]
             for thing in others + parts:
-                self.check(program, thing, False)
+                check_equal(self, program, thing, False)
 
     def test_things_that_are_equal_to_everything(self):
-        class Any:
-            def __eq__(self, other):
-                return True
-
-        self.assertIs(Program(LOTS) == Any(), False)
+        self.assertIs(Program(LOTS) == EqualToAll(), False)
 
 
 class TestIsSweep(unittest.TestCase):

@@ -6,7 +6,9 @@ import unittest
 from lotmarks.errors import BadWeb, LotError, UnknownCell
 from lotmarks.programs import Program
 from lotmarks.webs import Web
-from tests.things import WRONG_NAMES, any_objects, nested, no_lists, no_names, small_webs
+from tests.things import (
+    WRONG_NAMES, EqualToAll, any_objects, check_equal, nested, no_lists, no_names, small_webs,
+)
 
 ROWS = [("c", ["b", "c", "a"]), ("a", []), ("d", ["c"]), ("b", ["d", "a"])]
 
@@ -147,17 +149,11 @@ class TestWalk(unittest.TestCase):
 
 
 class TestEqual(unittest.TestCase):
-    def check(self, one, other, equal):
-        self.assertIs(one == other, equal)
-        self.assertIs(one != other, not equal)
-        self.assertIs(other == one, equal)
-        self.assertIs(other != one, not equal)
-
     def test_the_same_rows(self):
-        self.check(Web(ROWS), Web(ROWS), True)
-        self.check(Web(ROWS), Web(tuple((cell, tuple(sources)) for cell, sources in ROWS)), True)
+        check_equal(self, Web(ROWS), Web(ROWS), True)
+        check_equal(self, Web(ROWS), Web(tuple((cell, tuple(sources)) for cell, sources in ROWS)), True)
         web = Web(ROWS)
-        self.check(web, web, True)
+        check_equal(self, web, web, True)
 
     def test_all_small_webs(self):
         webs = [Web(rows) for rows in small_webs()]
@@ -167,36 +163,32 @@ class TestEqual(unittest.TestCase):
                     self.fail((at, past))
 
     def test_another_order_of_the_cells(self):
-        self.check(Web([("a", []), ("b", [])]), Web([("b", []), ("a", [])]), False)
-        self.check(Web([("a", ["b"]), ("b", [])]), Web([("b", []), ("a", ["b"])]), False)
+        check_equal(self, Web([("a", []), ("b", [])]), Web([("b", []), ("a", [])]), False)
+        check_equal(self, Web([("a", ["b"]), ("b", [])]), Web([("b", []), ("a", ["b"])]), False)
 
     def test_another_order_of_the_sources(self):
-        self.check(Web([("a", ["a", "b"]), ("b", [])]), Web([("a", ["b", "a"]), ("b", [])]), False)
+        check_equal(self, Web([("a", ["a", "b"]), ("b", [])]), Web([("a", ["b", "a"]), ("b", [])]), False)
 
     def test_other_cells(self):
-        self.check(Web([("a", [])]), Web([("b", [])]), False)
-        self.check(Web([("a", ["a"])]), Web([("b", ["b"])]), False)
-        self.check(Web([("a", [])]), Web([("a", []), ("b", [])]), False)
-        self.check(Web([("a", ["a"])]), Web([("a", ["a"]), ("b", [])]), False)
+        check_equal(self, Web([("a", [])]), Web([("b", [])]), False)
+        check_equal(self, Web([("a", ["a"])]), Web([("b", ["b"])]), False)
+        check_equal(self, Web([("a", [])]), Web([("a", []), ("b", [])]), False)
+        check_equal(self, Web([("a", ["a"])]), Web([("a", ["a"]), ("b", [])]), False)
 
     def test_other_sources(self):
-        self.check(Web([("a", []), ("b", ["a"])]), Web([("a", []), ("b", [])]), False)
-        self.check(Web([("a", []), ("b", ["a"])]), Web([("a", []), ("b", ["b"])]), False)
-        self.check(Web([("a", ["a"]), ("b", [])]), Web([("a", []), ("b", ["a"])]), False)
+        check_equal(self, Web([("a", []), ("b", ["a"])]), Web([("a", []), ("b", [])]), False)
+        check_equal(self, Web([("a", []), ("b", ["a"])]), Web([("a", []), ("b", ["b"])]), False)
+        check_equal(self, Web([("a", ["a"]), ("b", [])]), Web([("a", []), ("b", ["a"])]), False)
 
     def test_things_of_other_kinds(self):
         web = Web([("a", [])])
         others = [thing for thing in any_objects() if not isinstance(thing, Web)]
         parts = [web.cells, web.arrows, list(web), [("a", [])], {"a": ()}, (("a", ()),), Program([["a"]])]
         for thing in others + parts:
-            self.check(web, thing, False)
+            check_equal(self, web, thing, False)
 
     def test_things_that_are_equal_to_everything(self):
-        class Any:
-            def __eq__(self, other):
-                return True
-
-        self.assertIs(Web(ROWS) == Any(), False)
+        self.assertIs(Web(ROWS) == EqualToAll(), False)
 
 
 class TestBadWeb(unittest.TestCase):

@@ -1,4 +1,4 @@
-"""Things that several tests pass: any objects, of every kind that the document names, and small webs."""
+"""Things that several tests pass: any objects, of every kind that the document names, small webs, a check of equality."""
 
 import itertools
 
@@ -46,3 +46,18 @@ def small_webs():
     choices = [list(some) for many in range(4) for some in itertools.combinations("abc", many)]
     for sources in itertools.product(choices, repeat=3):
         yield list(zip("bac", sources))
+
+
+class EqualToAll:
+    """A thing that tells of itself that it is equal to everything."""
+
+    def __eq__(self, other):
+        return True
+
+
+def check_equal(test, one, other, equal):
+    """Both signs, from both sides, tell True or False as they should."""
+    test.assertIs(one == other, equal)
+    test.assertIs(one != other, not equal)
+    test.assertIs(other == one, equal)
+    test.assertIs(other != one, not equal)
