@@ -92,16 +92,21 @@ def ring(web, cells):
 def ring_from(web, cells, begin):
     """A shortest ring from one cell through told ones, or None."""
     paths = [[begin]]
-    met = []
-    # All paths are lengthened together, so the first one that comes back is a shortest one.
-    while len(paths) > 0:
-        longer = []
+    # All paths are lengthened together, so the first one that comes back is a shortest one. Such a one has no cell
+    # twice, so none has more cells than the web.
+    while len(paths) > 0 and len(paths[0]) <= len(web):
         for path in paths:
-            for target in web.targets(path[-1]):
-                if target == begin:
-                    return path + [begin]
-                if target in cells and target not in met:
-                    met.append(target)
-                    longer.append(path + [target])
-        paths = longer
+            if begin in web.targets(path[-1]):
+                return path + [begin]
+        paths = lengthened(web, cells, paths)
     return None
+
+
+def lengthened(web, cells, paths):
+    """The paths one told cell longer: of those that come to the same cell just one."""
+    longer = {}
+    for path in paths:
+        for target in web.targets(path[-1]):
+            if target in cells:
+                longer[target] = path + [target]
+    return list(longer.values())

@@ -46,6 +46,7 @@ STATEMENTS = (
     ast.Break, ast.Continue,
 )
 LIST_TAKERS = set("sum min max sorted any all".split())
+MODIFIERS = set("append clear extend insert pop remove reverse setdefault sort update add discard".split())
 PLAIN_NAME = re.compile(r"[A-Za-z][A-Za-z0-9_]*")
 DOUBLE = re.compile(r"__[a-z]+__")
 
@@ -58,7 +59,7 @@ def complaints(name, source):
         found += [(rule, getattr(node, "lineno", 0)) for rule in node_rules(node)]
     for node in ast.walk(tree):
         if isinstance(node, (ast.FunctionDef, ast.Lambda)):
-            found += function_complaints(tree, node)
+            found += function_complaints(tree, node) + loop_complaints(node)
     return sorted(set(found), key=lambda one: (one[1], one[0]))
 
 
@@ -171,6 +172,76 @@ def function_complaints(tree, function):
             if node.id not in USED_BUILTINS:
                 found.append(("L8", node.lineno))
     return found
+
+
+def loop_complaints(function):
+    """Changes of what a loop or a comprehension walks, also by another name that was given the same thing."""
+    found = []
+    groups = same_things(function)
+    for node in ast.walk(function):
+        if isinstance(node, ast.For):
+            heads, rows = [node.iter], node.body
+        elif isinstance(node, (ast.ListComp, ast.SetComp, ast.DictComp, ast.GeneratorExp)):
+            heads, rows = [one.iter for one in node.generators], [node]
+        else:
+            continue
+        walked = [name for head in heads for name in given_by(walked_by(head))]
+        walked += [name for group in groups for name in group if group & set(walked)]
+        for inner in [inner for row in rows for inner in ast.walk(row)]:
+            if any(name in walked for name in changed_by(inner)):
+                found.append(("L23", inner.lineno))
+    return found
+
+
+def same_things(function):
+    """Sets of names, attributes and items that a function may give the same thing."""
+    groups = []
+    for node in ast.walk(function):
+        if not isinstance(node, (ast.Assign, ast.AnnAssign, ast.NamedExpr)):
+            continue
+        for target in node.targets if isinstance(node, ast.Assign) else [node.target]:
+            parts = [(target, node.value)]
+            if isinstance(target, ast.Tuple) and isinstance(node.value, ast.Tuple):
+                parts = list(zip(target.elts, node.value.elts))
+            for to, value in parts:
+                group = set(given_by(to) + given_by(value))
+                group |= {name for told in groups if told & group for name in told}
+                groups = [told for told in groups if not told & group] + [group]
+    return groups
+
+
+def given_by(node):
+    """The names, attributes and items, as they are written, of which an expression may give one."""
+    if isinstance(node, ast.IfExp):
+        return given_by(node.body) + given_by(node.orelse)
+    if isinstance(node, ast.BoolOp):
+        return [name for value in node.values for name in given_by(value)]
+    if isinstance(node, ast.Tuple):
+        return [name for value in node.elts for name in given_by(value)]
+    if isinstance(node, ast.NamedExpr):
+        return given_by(node.target) + given_by(node.value)
+    return [ast.unparse(node)] if isinstance(node, (ast.Name, ast.Attribute, ast.Subscript)) else []
+
+
+def walked_by(node):
+    """What a loop walks: behind enumerate, zip, reversed, items and the like what these are of."""
+    called = node.func if isinstance(node, ast.Call) else None
+    if isinstance(called, ast.Name) and called.id in ("enumerate", "zip", "reversed"):
+        return ast.Tuple([walked_by(one) for one in node.args], ast.Load())
+    if isinstance(called, ast.Attribute) and called.attr in ("items", "keys", "values"):
+        return called.value
+    return node
+
+
+def changed_by(node):
+    """The names, attributes and items that one node changes without giving them another thing."""
+    if isinstance(node, ast.Call) and isinstance(node.func, ast.Attribute) and node.func.attr in MODIFIERS:
+        return given_by(node.func.value)
+    if isinstance(node, ast.AugAssign):
+        return given_by(node.target) + given_by(getattr(node.target, "value", None))
+    if isinstance(node, ast.Subscript) and isinstance(node.ctx, (ast.Store, ast.Del)):
+        return given_by(node.value)
+    return []
 
 
 def node_rules(node):

@@ -31,10 +31,28 @@ BROKEN = {
             "def f():\n    try:\n        pass\n    except Exception:\n        pass\n"],
     "L20": ["def f(a, b):\n    return a is b\n", "def f(a):\n    return a is not f\n"],
     "L22": ["def f(a):\n    return isinstance(a, int | str)\n"],
+    "L23": ["def f(xs):\n    for x in xs:\n        xs.append(x)\n",
+            "def f(xs):\n    for x in xs[1]:\n        xs[1].clear()\n",
+            "def f(a):\n    for at, x in enumerate(a.xs):\n        a.xs[at] = 1\n",
+            "def f(xs):\n    for x, y in zip([1], xs):\n        xs += [x]\n",
+            "def f(d):\n    for k in d:\n        del d[k]\n",
+            "def f(d):\n    for k, x in d.items():\n        d[k] += x\n",
+            "def f(xs):\n    return [xs.pop() for x in xs]\n",
+            "def f(a):\n    xs = a.xs\n    for x in xs:\n        a.xs.append(x)\n",
+            "def f(a, b):\n    for x in a or b:\n        b.append(x)\n",
+            "def f(a, b):\n    a, b = b, a\n    for x in a:\n        b.append(x)\n",
+            "def f(a):\n    while a:\n        b = []\n        for x in a:\n            b.append(x)\n        a = b\n"],
     "L24": ["def f(a):\n    return list(set(a))\n", "def f(a):\n    return [b for b in {c for c in a}]\n"],
     "L26": ["def f(a):\n    a.items = 1\n"],
     "L27": ["def f(n):\n    return 2 ** n\n", "A = '%'\n", "A = '__odd__'\n", "A = '._'\n"],
 }
+# Files that break none, though they come near to one.
+WHOLE = [
+    "def f(xs):\n    for x in list(xs):\n        xs.append(x)\n",
+    "def f(xs):\n    ys = []\n    for x in xs:\n        ys.append(x)\n    return ys\n",
+    "def f(xs, d):\n    for k in xs:\n        d[k] = d[k] + xs\n        xs = [k]\n",
+    "def f(a, d):\n    for x in d.get(a, []):\n        d.pop(a)\n",
+]
 BROKEN_PACKAGES = {
     "L16": [
         {"a.py": "from lotmarks.b import c\n", "b.py": "from lotmarks.d import c\n", "d.py": "c = 1\n"},
@@ -85,6 +103,10 @@ class TestLanguage(unittest.TestCase):
             for node in ast.walk(tree):
                 if isinstance(node, (ast.ClassDef, ast.FunctionDef)) and not node.name.startswith("__"):
                     self.assertIsNotNone(ast.get_docstring(node), (name, node.name))
+
+    def test_the_script_lets_stand_what_is_whole(self):
+        for source in WHOLE:
+            self.assertEqual(complaints("a.py", source), [], source)
 
     def test_the_script_sees_what_is_broken(self):
         for rule, sources in BROKEN.items():
