@@ -29,3 +29,8 @@ def is_integer(thing):
 def is_count(thing):
     """Whether a thing is an integer from 0 on."""
     return is_integer(thing) and thing >= 0
+
+
+def is_worth(thing, worths):
+    """Whether a thing is an integer from 0 up to the number of worths, without it."""
+    return is_count(thing) and thing < worths

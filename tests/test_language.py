@@ -5,7 +5,7 @@ import inspect
 import pathlib
 import unittest
 
-from lotmarks import programs, webs
+from lotmarks import partings, programs, rounds, rules, versions, webs
 from tests.language import complaints, package_complaints
 
 FOLDER = pathlib.Path(webs.__file__).parent
@@ -68,7 +68,24 @@ BROKEN_PACKAGES = {
 }
 
 # The classes and functions of the interface that have landed: file, name, parameters.
-FUNCTIONS = [(webs, "ring", ["web", "cells"]), (programs, "is_sweep", ["web", "program"])]
+FUNCTIONS = [
+    (webs, "ring", ["web", "cells"]),
+    (programs, "is_sweep", ["web", "program"]),
+    (versions, "reads", ["web", "program"]),
+    (versions, "kinds", ["web", "program"]),
+    (versions, "same", ["web", "one", "other"]),
+    (versions, "depth", ["web", "program", "cell"]),
+    (versions, "ways", ["web", "program", "begin", "end"]),
+    (versions, "needs", ["web", "program", "cell"]),
+    (versions, "needed", ["web", "program"]),
+    (versions, "idle", ["web", "program"]),
+    (partings, "parting", ["web", "one", "other"]),
+    (rounds, "settles", ["web", "program"]),
+    (rounds, "alike_at", ["web", "one", "other", "most"]),
+    (rules, "rests", ["rules"]),
+    (rules, "first_unlike", ["rules", "one", "other"]),
+    (rules, "sinks", ["rules", "program"]),
+]
 CLASSES = [
     (webs, "Web", ["rows"], {
         "sources": ["cell"], "targets": ["cell"], "__contains__": None, "__len__": [], "__iter__": [], "__eq__": None,
@@ -76,6 +93,10 @@ CLASSES = [
     (programs, "Program", ["lots"], {
         "times": ["n"], "renewings": [], "renewed": [], "__add__": None, "__len__": [], "__iter__": [], "__eq__": None,
     }),
+    (rules, "Rules", ["web", "worths", "tables"], {
+        "table": ["cell"], "tells": ["cell", "read"], "run": ["program", "beginning"], "__eq__": None,
+    }),
+    (partings, "Parting", ["rules", "beginning", "cell"], {}),
 ]
 
 

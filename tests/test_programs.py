@@ -6,7 +6,7 @@ import unittest
 from lotmarks.errors import BadNumber, BadProgram, UnknownCell
 from lotmarks.programs import Program, is_sweep
 from lotmarks.webs import Web
-from tests.things import EqualToAll, any_objects, check_equal, nested, no_lists, no_names
+from tests.things import THREE, EqualToAll, any_objects, check_equal, check_lacking, nested, no_lists, no_names
 
 LOTS = [["c", "a"], ["b"], ["c", "b", "a"], ["b"]]
 SORTED = (("a", "c"), ("b",), ("a", "b", "c"), ("b",))
@@ -253,7 +253,7 @@ class TestEqual(unittest.TestCase):
 
 
 class TestIsSweep(unittest.TestCase):
-    web = Web([("c", ["a"]), ("a", ["c", "a"]), ("b", [])])
+    web = THREE
 
     def test_sweeps(self):
         for lots in [[["a", "b", "c"]], [["c"], ["b"], ["a"]], [["b", "a"], ["c"]], [["a"], ["c", "b"]]]:
@@ -278,18 +278,7 @@ class TestIsSweep(unittest.TestCase):
             self.assertIs(is_sweep(self.web, Program(lots)), cells == ["a", "b", "c"])
 
     def test_the_first_cell_that_the_web_lacks(self):
-        for lots, cell in [
-            ([["z"]], "z"),
-            ([["a", "z"], ["y"]], "z"),
-            ([["z", "y", "a"], ["x"]], "y"),
-            ([["a", "b", "c"], ["d", "a"]], "d"),
-            ([["c"], ["b"], ["zz", "za", "zb", "a"], ["d"]], "za"),
-            ([["a"], ["a"], ["ab"]], "ab"),
-        ]:
-            with self.assertRaises(UnknownCell) as held:
-                is_sweep(self.web, Program(lots))
-            self.assertEqual(held.exception.cell, cell)
-            self.assertEqual(type(held.exception), UnknownCell)
+        check_lacking(self, lambda program: is_sweep(THREE, program))
 
     def test_arguments_by_name(self):
         self.assertIs(is_sweep(program=Program([["c", "b", "a"]]), web=self.web), True)
