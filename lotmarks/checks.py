@@ -8,9 +8,8 @@ def is_list(thing):
 
 def is_name(thing):
     """Whether a thing is a string of one to eight letters a to z."""
-    if not isinstance(thing, str) or not 1 <= len(thing) <= 8:
-        return False
-    return all(["a" <= letter <= "z" for letter in thing])
+    # Of the ASCII signs just the small letters pass both of the last two; the empty text passes neither.
+    return isinstance(thing, str) and len(thing) <= 8 and thing.isascii() and thing.isalpha() and thing.islower()
 
 
 def is_name_list(thing):

@@ -2,7 +2,7 @@
 
 from lotmarks.programs import is_sweep
 from lotmarks.rules import Rules
-from lotmarks.versions import last_kinds, no_kinds, reads
+from lotmarks.versions import carried, reads, same
 
 
 class Parting:
@@ -16,18 +16,27 @@ class Parting:
 
 def parting(web, one, other):
     """A parting of two programs, or None if they do the same."""
-    known = no_kinds(web)
-    ends = last_kinds(web, one, known)
-    others = last_kinds(web, other, known)
-    unlike = [cell for cell in web if ends[cell] != others[cell]]
-    if len(unlike) == 0:
+    if same(web, one, other):
         return None
     if is_sweep(web, one) and is_sweep(web, other):
         return sweep_parting(web, one, other)
-    # By these rules each version is worth the number of its kind.
+    return kind_parting(web, one, other)
+
+
+def kind_parting(web, one, other):
+    """A parting of two programs that do not do the same: by its rules each version is worth the number of its kind."""
+    known = {cell: {} for cell in web}
+    begins = {cell: 0 for cell in web}
+
+    def kind_of(cell, read):
+        """The kind of a renewing; 0 is that of version 0, which no renewing is alike to."""
+        return known[cell].setdefault(tuple(read), len(known[cell]) + 1)
+
+    ends = carried(web, one, begins, kind_of)
+    others = carried(web, other, begins, kind_of)
     tables = {cell: list(known[cell].items()) for cell in web}
     worths = 1 + max([len(known[cell]) for cell in web])
-    return Parting(Rules(web, worths, tables), {cell: 0 for cell in web}, unlike[0])
+    return Parting(Rules(web, worths, tables), begins, [cell for cell in web if ends[cell] != others[cell]][0])
 
 
 def sweep_parting(web, one, other):

@@ -1,6 +1,6 @@
 """Programs: lists of lots, which are done one behind another."""
 
-from lotmarks.checks import is_count, is_list, is_name_list
+from lotmarks.checks import is_count, is_list, is_name, is_name_list
 from lotmarks.errors import BadNumber, BadProgram
 from lotmarks.webs import check_cells
 
@@ -9,10 +9,15 @@ class Program:
     """Lots, each a set of cells that are renewed at once; a program never changes."""
 
     def __init__(self, lots):
-        wrong = first_wrong_lot(lots)
-        if wrong is not None:
-            raise BadProgram(wrong)
-        self.lots = tuple([tuple(sorted(lot)) for lot in lots])
+        if not is_list(lots):
+            raise BadProgram(0)
+        found = ascending_lots(lots)
+        # Programs have many lots and few unlike ones, so whatever is asked of each lot is asked of the unlike ones.
+        self.unlike_lots = tuple(sorted(set(found)))
+        wrong = [lot for lot in self.unlike_lots if not is_lot(lot)]
+        if len(wrong) > 0:
+            raise BadProgram([index for index, lot in enumerate(found) if lot in wrong][0])
+        self.lots = tuple(found)
 
     def times(self, n):
         """The program that does this one n times."""
@@ -26,7 +31,7 @@ class Program:
 
     def renewed(self):
         """The ascending tuple of the cells that are renewed."""
-        return tuple(sorted({cell for lot in self.lots for cell in lot}))
+        return tuple(sorted({cell for lot in self.unlike_lots for cell in lot}))
 
     def __add__(self, other):
         if not isinstance(other, Program):
@@ -43,19 +48,33 @@ class Program:
         return isinstance(other, Program) and self.lots == other.lots
 
 
-def first_wrong_lot(lots):
-    """The index of the first thing that can't be a lot, 0 if there is no list of lots, None if all can be."""
-    if not is_list(lots):
-        return 0
-    for index, lot in enumerate(lots):
-        if not is_name_list(lot) or len(lot) == 0:
-            return index
-    return None
+def ascending_lots(things):
+    """The list of the ascending tuples of what things list; the empty tuple for each that is no list of texts."""
+    # Most lots have one cell: for these there is no call, as calls are what takes the time here.
+    return [
+        (thing[0],) if isinstance(thing, (list, tuple)) and len(thing) == 1 and isinstance(thing[0], str)
+        else ascending_texts(thing)
+        for thing in things
+    ]
+
+
+def ascending_texts(thing):
+    """The ascending tuple of the texts that a thing lists; the empty tuple if it is no list of texts."""
+    if not is_list(thing) or not all([isinstance(item, str) for item in thing]):
+        return ()
+    return tuple(sorted(thing))
+
+
+def is_lot(texts):
+    """Whether a tuple of texts is one of one or more different names."""
+    return is_name(texts[0]) if len(texts) == 1 else len(texts) > 0 and is_name_list(texts)
 
 
 def check_program(web, program):
     """Raise UnknownCell for the first cell of a program that the web lacks."""
-    for lot in program:
+    if all([cell in web.sources_of for lot in program.unlike_lots for cell in lot]):
+        return
+    for lot in program.lots:
         check_cells(web, lot)
 
 

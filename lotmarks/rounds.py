@@ -2,8 +2,8 @@
 
 from lotmarks.checks import is_count
 from lotmarks.errors import BadNumber
+from lotmarks.kinds import Kinds
 from lotmarks.programs import check_program
-from lotmarks.versions import same
 from lotmarks.webs import ring
 
 
@@ -12,10 +12,15 @@ def settles(web, program):
     check_program(web, program)
     if ring(web, program.renewed()) is not None:
         return None
-    # Without a ring this ends: one time more settles those cells at least whose sources are settled.
+    # Without a ring each time settles those cells at least whose sources are settled.
+    told = Kinds(web, len(program) * (len(web) + 1))
     many = 0
-    while not same(web, program.times(many), program.times(many + 1)):
+    ahead = told.none
+    behind = told.behind(program, ahead)
+    while behind != ahead:
         many += 1
+        ahead = behind
+        behind = told.behind(program, ahead)
     return many
 
 
@@ -25,4 +30,12 @@ def alike_at(web, one, other, most):
     check_program(web, other)
     if not is_count(most):
         raise BadNumber(most)
-    return [many for many in range(most + 1) if same(web, one.times(many), other.times(many))]
+    told = Kinds(web, (len(one) + len(other)) * most)
+    first = second = told.none
+    found = [0]
+    for many in range(1, most + 1):
+        first = told.behind(one, first)
+        second = told.behind(other, second)
+        if first == second:
+            found.append(many)
+    return found

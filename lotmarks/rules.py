@@ -3,6 +3,7 @@
 from lotmarks.checks import is_count, is_list, is_worth
 from lotmarks.errors import BadNumber, BadRules, BadWorth
 from lotmarks.programs import check_program
+from lotmarks.versions import carried
 from lotmarks.webs import check_cells
 
 
@@ -37,12 +38,12 @@ class Rules:
         """The dict of what the cells are worth behind a program."""
         check_program(self.web, program)
         check_beginning(self, beginning)
-        now = {cell: beginning[cell] for cell in self.web}
-        for lot in program:
-            # All cells of a lot read before any of them takes its worth.
-            taken = {cell: self.tells_amid(cell, now) for cell in lot}
-            now.update(taken)
-        return now
+        return self.behind(program, {cell: beginning[cell] for cell in self.web})
+
+    def behind(self, program, ahead):
+        """The dict of what the cells are worth behind a program that is known to the web, from those ahead of it."""
+        told = self.told
+        return carried(self.web, program, ahead, lambda cell, read: told[cell].get(tuple(read), 0))
 
     def __eq__(self, other):
         return (
@@ -113,7 +114,7 @@ def first_unlike(rules, one, other):
     check_program(rules.web, one)
     check_program(rules.web, other)
     for beginning in all_beginnings(rules):
-        if rules.run(one, beginning) != rules.run(other, beginning):
+        if rules.behind(one, beginning) != rules.behind(other, beginning):
             return beginning
     return None
 
@@ -122,7 +123,8 @@ def sinks(rules, program):
     """The list of the rounds of beginnings in which one ends up when a program is done again and again."""
     check_program(rules.web, program)
     beginnings = all_beginnings(rules)
-    leads = [beginnings.index(rules.run(program, beginning)) for beginning in beginnings]
+    places = {tuple(beginning.values()): at for at, beginning in enumerate(beginnings)}
+    leads = [places[tuple(rules.behind(program, beginning).values())] for beginning in beginnings]
     rounds = [round_from(leads, begin) for begin in range(len(beginnings))]
     return [[beginnings[at] for at in met] for met in rounds if len(met) > 0]
 

@@ -29,8 +29,8 @@ class Web:
         return self.targets_of[cell]
 
     def __contains__(self, x):
-        # Not every object can be a key of a dict, so only names are looked up.
-        return is_name(x) and x in self.sources_of
+        # Not every object can be a key of a dict, so only texts are looked up.
+        return isinstance(x, str) and x in self.sources_of
 
     def __len__(self):
         return len(self.cells)

@@ -243,6 +243,32 @@ class TestSame(unittest.TestCase):
         self.assertIs(same(web, long + Program([["c", "d"]]), long + Program([["c"], ["d"]])), False)
         self.assertIs(same(Web([(cell, []) for cell in cells]), long, long.times(2)), True)
 
+    def test_many_programs_with_one(self):
+        web = Web([("a", ["a"]), ("b", ["b"]), ("c", ["a", "b"])])
+
+        def made(x, y):
+            return Program([["a"]] * x + [["b"]] * y + [["c"]] + [["a"]] * (20 - x) + [["b"]] * (20 - y))
+
+        one = made(7, 19)
+        for x in range(21):
+            for y in range(21):
+                self.assertIs(same(web, one, made(x, y)), (x, y) == (7, 19), (x, y))
+
+    def test_cells_with_several_sources_in_lots_of_several_cells(self):
+        web = Web([("a", ["a"]), ("b", ["b"]), ("c", ["a", "b"]), ("d", ["b", "a"])])
+        # c and d read what they read last, ahead of the lot in which a or b stands with them.
+        for x in range(12):
+            for y in range(12):
+                lots = [["a"]] * x + [["b"]] * y + [["d", "c", "a"]] + [["a"]] * (12 - x) + [["b"]] * (12 - y)
+                told = Program([["a", "b"]] * 4 + [["a"]] + [["c", "a", "d"]] + [["b"]] * 8 + [["a"]] * 7)
+                self.assertIs(same(web, told, Program(lots)), (x, y) == (5, 4), (x, y))
+
+    def test_lots_of_several_cells_that_read_one_another(self):
+        web = Web([("a", ["b", "c"]), ("b", ["a", "c"]), ("c", ["b", "a"])])
+        programs = list(all_programs("abc", 2))
+        for one, other in itertools.product(programs, repeat=2):
+            self.assertIs(same(web, one, other), last_terms(web, one) == last_terms(web, other))
+
     def test_arguments_by_name(self):
         one, other = Program([["b"]]), Program([["b"], ["b"]])
         self.assertIs(same(other=other, one=one, web=THREE), True)
