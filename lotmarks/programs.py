@@ -70,6 +70,14 @@ def is_lot(texts):
     return is_name(texts[0]) if len(texts) == 1 else len(texts) > 0 and is_name_list(texts)
 
 
+def program_by(placed):
+    """The program for a list of pairs of a cell and the number of its lot; no lot between them is left empty."""
+    lots = [[] for lot in range(1 + max([lot for cell, lot in placed], default=-1))]
+    for cell, lot in placed:
+        lots[lot].append(cell)
+    return Program(lots)
+
+
 def check_program(web, program):
     """Raise UnknownCell for the first cell of a program that the web lacks."""
     if all([cell in web.sources_of for lot in program.unlike_lots for cell in lot]):

@@ -5,7 +5,7 @@ import inspect
 import pathlib
 import unittest
 
-from lotmarks import partings, programs, rounds, rules, versions, webs
+from lotmarks import books, partings, programs, rounds, rules, sweeps, tables, versions, webs
 from tests.language import complaints, package_complaints
 
 FOLDER = pathlib.Path(webs.__file__).parent
@@ -85,6 +85,23 @@ FUNCTIONS = [
     (rules, "rests", ["rules"]),
     (rules, "first_unlike", ["rules", "one", "other"]),
     (rules, "sinks", ["rules", "program"]),
+    (tables, "is_table", ["web", "thing"]),
+    (tables, "table_of", ["web", "program"]),
+    (tables, "lots_of", ["web", "table"]),
+    (tables, "program_of", ["web", "table"]),
+    (tables, "is_ring", ["web", "table", "renewings", "alone"]),
+    (tables, "fewest_lots", ["web", "table"]),
+    (tables, "chain", ["web", "table"]),
+    (tables, "is_chain", ["web", "table", "renewings"]),
+    (tables, "spans", ["web", "table", "n"]),
+    (tables, "one_by_one", ["web", "table"]),
+    (tables, "least", ["web", "program"]),
+    (sweeps, "marks", ["web", "program"]),
+    (sweeps, "sweep_of", ["web", "told"]),
+    (sweeps, "how_many", ["web", "told"]),
+    (sweeps, "sweep_number", ["web", "k", "told"]),
+    (sweeps, "number_of", ["web", "program", "told"]),
+    (sweeps, "sure", ["web", "told"]),
 ]
 CLASSES = [
     (webs, "Web", ["rows"], {
@@ -97,7 +114,14 @@ CLASSES = [
         "table": ["cell"], "tells": ["cell", "read"], "run": ["program", "beginning"], "__eq__": None,
     }),
     (partings, "Parting", ["rules", "beginning", "cell"], {}),
+    (books, "Book", ["web"], {
+        "hold": ["name", "one", "other"], "drop": ["name"], "state": ["name"], "names": [], "do": ["deed"], "undo": [],
+        "again": [], "deeds": [],
+    }),
 ]
+# Those parameters that have a default value.
+DEFAULTS = {"is_ring": {"alone": False}, "how_many": {"told": None}, "sweep_number": {"told": None},
+            "number_of": {"told": None}}
 
 
 def parameters(function):
@@ -147,6 +171,9 @@ class TestInterface(unittest.TestCase):
             self.assertTrue(inspect.isfunction(function))
             self.assertEqual(function.__module__, module.__name__)
             self.assertEqual(parameters(function), told, name)
+            told = inspect.signature(function).parameters.values()
+            found = {one.name: one.default for one in told if one.default is not one.empty}
+            self.assertEqual(found, DEFAULTS.get(name, {}), name)
 
     def test_classes_and_their_methods(self):
         for module, name, told, methods in CLASSES:
