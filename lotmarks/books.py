@@ -108,24 +108,21 @@ def plain_deed(deed):
 
 
 def check_deed(web, deed):
-    """Raise an error unless a deed can be done."""
+    """Raise an error unless a deed can be done; whether its sources are cells shows only in the web behind it."""
     if not is_deed(deed):
         raise BadDeed(deed)
     cell = deed[1]
     if deed[0] == "cell":
         if cell in web:
             raise Taken(cell)
-        check_cells(web, [source for source in deed[2] if source != cell])
         return
     check_cells(web, (cell,))
-    if deed[0] == "sources":
-        check_cells(web, deed[2])
-    elif len(web) == 1 or any([target != cell for target in web.targets(cell)]):
+    if deed[0] == "remove" and (len(web) == 1 or any([target != cell for target in web.targets(cell)])):
         raise Used(cell)
 
 
 def web_behind(web, deed):
-    """The web that comes of a deed."""
+    """The web that comes of a deed; UnknownCell for the first source that is no cell of it."""
     rows = [(cell, web.sources(cell)) for cell in web]
     if deed[0] == "cell":
         return Web(rows + [(deed[1], deed[2])])

@@ -12,7 +12,7 @@ def check_marks(arrows, told):
 
 def is_mark(thing):
     """Whether a thing is a mark."""
-    return isinstance(thing, str) and thing in ("new", "old")
+    return thing in ("new", "old")
 
 
 def ties_of_marks(told):

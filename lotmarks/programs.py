@@ -72,7 +72,8 @@ def is_lot(texts):
 
 def program_by(placed):
     """The program for a list of pairs of a cell and the number of its lot; no lot between them is left empty."""
-    lots = [[] for lot in range(1 + max([lot for cell, lot in placed], default=-1))]
+    last = max([lot for cell, lot in placed], default=-1)
+    lots = [[] for number in range(last + 1)]
     for cell, lot in placed:
         lots[lot].append(cell)
     return Program(lots)

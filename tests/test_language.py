@@ -5,7 +5,9 @@ import inspect
 import pathlib
 import unittest
 
-from lotmarks import books, partings, programs, rounds, rules, sweeps, tables, versions, webs
+from lotmarks import (
+    books, changes, partings, programs, races, rounds, rules, sweeps, tables, texts, versions, waves, webs,
+)
 from tests.language import complaints, package_complaints
 
 FOLDER = pathlib.Path(webs.__file__).parent
@@ -102,6 +104,20 @@ FUNCTIONS = [
     (sweeps, "sweep_number", ["web", "k", "told"]),
     (sweeps, "number_of", ["web", "program", "told"]),
     (sweeps, "sure", ["web", "told"]),
+    (races, "race_marks", ["web", "cells", "acts"]),
+    (races, "race_of", ["web", "cells", "told"]),
+    (races, "races", ["web", "cells"]),
+    (races, "aside", ["web", "cells"]),
+    (races, "is_aside", ["web", "cells", "kept", "row"]),
+    (changes, "joined", ["web", "program", "i"]),
+    (changes, "swapped", ["web", "program", "i"]),
+    (changes, "dropped", ["web", "program", "i", "cell"]),
+    (changes, "sweeps_seen", ["rules", "beginning", "end"]),
+    (waves, "row", ["piece", "n"]),
+    (waves, "wave", ["piece", "pair", "n"]),
+    (waves, "waves_part", ["piece", "one", "other"]),
+    (texts, "written", ["thing"]),
+    (texts, "read", ["text"]),
 ]
 CLASSES = [
     (webs, "Web", ["rows"], {
@@ -118,6 +134,7 @@ CLASSES = [
         "hold": ["name", "one", "other"], "drop": ["name"], "state": ["name"], "names": [], "do": ["deed"], "undo": [],
         "again": [], "deeds": [],
     }),
+    (waves, "Piece", ["cells", "arrows"], {}),
 ]
 # Those parameters that have a default value.
 DEFAULTS = {"is_ring": {"alone": False}, "how_many": {"told": None}, "sweep_number": {"told": None},

@@ -292,6 +292,13 @@ class TestOneByOne(unittest.TestCase):
     def test_a_cell_that_reads_its_own_elder_version(self):
         self.assertEqual(one_by_one(OWN, {"b": [(0, 0)], "a": [(0,)]}), Program([["b"], ["a"]]))
 
+    def test_cells_that_read_their_own_elder_versions_and_one_anothers(self):
+        for cells in ("ab", "ba"):
+            web = Web([(cell, ["a", "b"]) for cell in cells])
+            with self.assertRaises(Ringed) as held:
+                one_by_one(web, {"a": [(0, 0)], "b": [(0, 0)]})
+            self.assertEqual(sorted(held.exception.ring), [("a", 1), ("b", 1)])
+
     def test_a_ring_with_a_strict_tie_is_told_where_there_is_one(self):
         web = Web([("d", ["c"]), ("c", ["d"]), ("b", ["a"]), ("a", ["b"])])
         table = {"d": [(0,)], "c": [(0,)], "b": [(1,)], "a": [(1,)]}
