@@ -1,7 +1,7 @@
 """Books: a web that changes by deeds, and pairs of programs whose states are told."""
 
 from lotmarks.checks import is_list, is_name, is_name_list
-from lotmarks.errors import BadDeed, BadName, Held, NoDeed, NotHeld, Taken, UnknownCell, Used
+from lotmarks.errors import BadDeed, BadName, Held, NoDeed, NotHeld, Taken, Used
 from lotmarks.programs import check_program
 from lotmarks.versions import same
 from lotmarks.webs import Web, check_cells

@@ -3,7 +3,7 @@
 from lotmarks.checks import is_list
 from lotmarks.errors import BadActs, BadCells, MarkRing
 from lotmarks.marks import check_marks, levels_by
-from lotmarks.subsets import chosen, members, subset_of, unions
+from lotmarks.subsets import chosen, members, subset_of
 from lotmarks.ties import first_row
 
 

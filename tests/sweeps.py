@@ -4,7 +4,6 @@ import itertools
 import random
 
 from lotmarks.errors import BadMarks, MarkRing
-from lotmarks.programs import Program
 from lotmarks.webs import Web
 from tests.things import any_objects
 

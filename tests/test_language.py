@@ -155,6 +155,13 @@ class TestLanguage(unittest.TestCase):
         for name, source in SOURCES.items():
             self.assertEqual(complaints(name, source), [], name)
 
+    def test_each_import_is_used(self):
+        for name, source in SOURCES.items():
+            tree = ast.parse(source)
+            told = [one.name for node in tree.body if isinstance(node, ast.ImportFrom) for one in node.names]
+            read = {node.id for node in ast.walk(tree) if isinstance(node, ast.Name)}
+            self.assertEqual([one for one in told if one not in read], [], name)
+
     def test_all_files_together(self):
         self.assertEqual(package_complaints(SOURCES), [])
 
